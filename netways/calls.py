@@ -1,19 +1,17 @@
-"""The calls on a board: each answers a list of whole numbers, a refusal its number alone.
+"""The calls that change a board: each answers a list of whole numbers, a refusal its number alone.
 
 Refusals are looked for from the one nearest to 0 on, and before anything is changed.
 """
 
-from netways.ground import firm_ground, soft_ground
-from netways.refusals import BAD_COST, BAD_DIRECTION, BAD_LAYER, BAD_NET, BAD_SIZE, BAD_SPOT
-from netways.refusals import IS_LAID, NOT_LAID, NOT_TO_BE_HAD, NO_PINS, NO_TREE, PINS_FULL
-from netways.state import NETS
-from netways.tree import find_tree
+from netways.asks import ask_unlaid
+from netways.refusals import BAD_COST, BAD_DIRECTION, BAD_LAYER, BAD_NET, BAD_SIZE, IS_LAID, NOT_TO_BE_HAD, NO_TREE
+from netways.refusals import box_refusal, budget_refusal, is_net, pin_refusal, tree_refusal, ways_refusal
+from netways.tries import firm_tree, improve_by_tries, lay_by_tree, make_tries
 
 MOST_COLUMNS = 24
 MOST_ROWS = 24
 MOST_LAYERS = 4
 MOST_COST = 1000
-MOST_PINS = 16
 
 
 def begin(board, columns, rows, layers):
@@ -85,7 +83,7 @@ def route(board, net):
     refusal = tree_refusal(board, net)
     if refusal != 0:
         return [refusal]
-    tree = find_tree(firm_ground(board, net), board.pins[net])
+    tree = firm_tree(board, net)
     if tree is None:
         return [NO_TREE]
     board.lay(net, tree.ways)
@@ -93,59 +91,33 @@ def route(board, net):
 
 
 def rip(board, net):
-    if not is_net(net):
-        return [BAD_NET]
-    if not board.is_laid(net):
-        return [NOT_LAID]
+    refusal = ways_refusal(board, net)
+    if refusal != 0:
+        return [refusal]
     board.unlay(net)
     return [0]
 
 
-def soft(board, net):
-    refusal = tree_refusal(board, net)
+def order(board, nets):
+    if not all([is_net(net) for net in nets]):
+        return [BAD_NET]
+    for net in nets:
+        if board.pins[net] and not board.is_laid(net):
+            lay_by_tree(board, net)
+    return ask_unlaid(board)
+
+
+def auto(board, budget):
+    refusal = budget_refusal(budget)
     if refusal != 0:
         return [refusal]
-    tree = find_tree(soft_ground(board, net), board.pins[net])
-    if tree is None:
-        return [NO_TREE]
-    others = board.other_takers(net, tree.ways)
-    return [tree.cost, len(others)] + others
+    made = make_tries(board, board.unlaid_nets(), budget)
+    return [made] + ask_unlaid(board)
 
 
-def is_net(net):
-    return 1 <= net <= NETS
-
-
-# The refusals below are 0 where none is due.
-def box_refusal(board, box):
-    if not 0 <= box[0] <= board.grid.layers:
-        return BAD_LAYER
-    if not board.grid.holds_box(box):
-        return BAD_SPOT
-    return 0
-
-
-# A bad net stands between a box's two refusals, a bad layer and a bad spot.
-def pin_refusal(board, net, box):
-    refusal = box_refusal(board, box)
-    if refusal == BAD_LAYER:
-        return BAD_LAYER
-    if not is_net(net):
-        return BAD_NET
+def improve(board, budget):
+    refusal = budget_refusal(budget)
     if refusal != 0:
-        return refusal
-    if board.is_laid(net):
-        return IS_LAID
-    if len(board.pins[net]) == MOST_PINS:
-        return PINS_FULL
-    return 0
-
-
-def tree_refusal(board, net):
-    if not is_net(net):
-        return BAD_NET
-    if board.is_laid(net):
-        return IS_LAID
-    if not board.pins[net]:
-        return NO_PINS
-    return 0
+        return [refusal]
+    stays = improve_by_tries(board, budget)
+    return [1 if stays else 0] + ask_unlaid(board)

@@ -41,6 +41,21 @@ class Grid:
             pairs.append((cell + self.area, TO_LAYER))
         return pairs
 
+    # x is asked for, not how far the numbers are apart: in one column y is 1 apart, too.
+    def step_kind(self, cell, near):
+        if self.place_of(cell) == self.place_of(near):
+            return TO_LAYER
+        if cell % self.columns == near % self.columns:
+            return ALONG_Y
+        return ALONG_X
+
+    # A spot is the list of a cell's layer, x and y.
+    def cell_at(self, spot):
+        return (spot[0] - 1) * self.area + spot[2] * self.columns + spot[1]
+
+    def spot_of(self, cell):
+        return [cell // self.area + 1, cell % self.columns, cell // self.columns % self.rows]
+
     # A place has the number of its cell on layer 1.
     def place_of(self, cell):
         return cell % self.area
@@ -60,18 +75,16 @@ class Grid:
         cells = []
         for layer in layers:
             for y in range(box[2], box[4] + 1):
-                start = (layer - 1) * self.area + y * self.columns
-                cells.extend(list(range(start + box[1], start + box[3] + 1)))
+                cells.extend(list(range(self.cell_at([layer, box[1], y]), self.cell_at([layer, box[3], y]) + 1)))
         return cells
 
-    # Two cells of a way that follow one another at one place are a step to another layer,
-    # and such a step takes the whole place.
+    # A step to another layer takes the whole place.
     def taken_cells(self, ways):
         taken = {}
         for way in ways:
             for k, cell in enumerate(way):
                 taken[cell] = True
-                if k > 0 and self.place_of(way[k - 1]) == self.place_of(cell):
+                if k > 0 and self.step_kind(way[k - 1], cell) == TO_LAYER:
                     for other in self.place_cells(self.place_of(cell)):
                         taken[other] = True
         return list(taken)

@@ -10,22 +10,83 @@ class Tree:
         self.cost = 0
 
 
+# The costs of cells, spread from what is reached. More may be reached behind a search: costs
+# only become less by that, so the wave goes on from the new cells and nothing is begun anew.
+class Wave:
+
+    # fronts holds, by their cost, the cells that haven't been stepped from at that cost; a cell
+    # whose cost has become less since stands there in vain.
+    def __init__(self, ground):
+        self.ground = ground
+        self.costs = [FAR] * ground.grid.size
+        self.fronts = {}
+
+    def reach(self, cells):
+        for cell in cells:
+            if self.costs[cell] > 0:
+                self.meet(cell, 0)
+
+    def meet(self, cell, cost):
+        self.costs[cell] = cost
+        self.fronts.setdefault(cost, []).append(cell)
+
+    # The wanted cell of least cost, of several the first in order; None if none has a cost.
+    # The wave stops there: costs up to this one are right then, and those of farther cells
+    # aren't asked for. The front stays, as other wanted cells may stand in it.
+    def nearest_of(self, wanted):
+        while self.fronts:
+            cost = min(self.fronts)
+            front = [cell for cell in self.fronts[cost] if self.costs[cell] == cost]
+            met = [cell for cell in front if cell in wanted]
+            if met:
+                return min(met)
+            self.fronts.pop(cost)
+            for cell in front:
+                self.step_from(cell)
+        return None
+
+    # Most near cells are no dearer already, so that is asked before anything else is called:
+    # nearly all the time of a search goes by here.
+    def step_from(self, cell):
+        costs = self.costs
+        enter = self.ground.enter
+        cost = costs[cell]
+        for near, kind in self.ground.grid.near[cell]:
+            over = cost + enter[kind][near]
+            if over < costs[near]:
+                self.meet(near, over)
+
+    def way_back(self, target):
+        way = []
+        cell = target
+        while cell is not None:
+            way.append(cell)
+            cell = self.cell_before(cell)
+        return way
+
+    # None for a reached cell: every step costs at least 1, so nothing comes before a cost of 0.
+    def cell_before(self, cell):
+        for near, kind in self.ground.grid.near[cell]:
+            if self.costs[near] + self.ground.enter[kind][cell] == self.costs[cell]:
+                return near
+        return None
+
+
 # None if the pins can't be joined.
 def find_tree(ground, pins):
     tree = Tree()
-    reached = cells_of(pins[:1])
+    wave = Wave(ground)
+    wave.reach(pins[0])
     waiting = pins[1:]
     while waiting:
-        wanted = cells_of(waiting)
-        costs = spread(ground, reached, wanted)
-        target = nearest(costs, wanted)
+        target = wave.nearest_of(cells_of(waiting))
         if target is None:
             return None
-        way = way_back(ground, costs, target)
+        way = wave.way_back(target)
         tree.ways.append(way)
-        tree.cost += costs[target]
-        held = [cells for cells in waiting if target in cells]
-        reached.update(cells_of([ground.grid.taken_cells([way])] + held))
+        tree.cost += wave.costs[target]
+        wave.reach(ground.grid.taken_cells([way]))
+        wave.reach(cells_of([cells for cells in waiting if target in cells]))
         waiting = [cells for cells in waiting if target not in cells]
     return tree
 
@@ -39,54 +100,10 @@ def cells_of(pins):
     return found
 
 
-# The cost of each cell. The wave stops where it meets the first wanted cells: costs up to
-# theirs are right then, and those of farther cells aren't asked for.
-def spread(ground, reached, wanted):
-    costs = [FAR] * ground.grid.size
-    for cell in reached:
-        costs[cell] = 0
-    fronts = {0: list(reached)}
-    while fronts:
-        cost = min(fronts)
-        met = fronts.pop(cost)
-        # A cell that was met again at less cost has been stepped from already.
-        front = [cell for cell in met if costs[cell] == cost]
-        if any([cell in wanted for cell in front]):
-            return costs
-        for cell in front:
-            step_from(ground, costs, fronts, cell)
-    return costs
-
-
-def step_from(ground, costs, fronts, cell):
-    cost = costs[cell]
-    enter = ground.enter
-    for near, kind in ground.grid.near[cell]:
-        over = cost + enter[kind][near]
-        if over < costs[near]:
-            costs[near] = over
-            fronts.setdefault(over, []).append(near)
-
-
-def nearest(costs, wanted):
-    least = min([costs[cell] for cell in wanted])
-    if least == FAR:
+# The least sum of steps from a cell that the net may use to another; None if there's no row of steps.
+def cost_between(ground, start, goal):
+    wave = Wave(ground)
+    wave.reach([start])
+    if wave.nearest_of({goal: True}) is None:
         return None
-    return min([cell for cell in wanted if costs[cell] == least])
-
-
-def way_back(ground, costs, target):
-    way = []
-    cell = target
-    while cell is not None:
-        way.append(cell)
-        cell = cell_before(ground, costs, cell)
-    return way
-
-
-# None for a reached cell: every step costs at least 1, so nothing comes before a cost of 0.
-def cell_before(ground, costs, cell):
-    for near, kind in ground.grid.near[cell]:
-        if costs[near] + ground.enter[kind][cell] == costs[cell]:
-            return near
-    return None
+    return wave.costs[goal]

@@ -53,6 +53,47 @@ def soft(net):
     return [9, net]
 
 
+def order(*told_nets):
+    return [10, len(told_nets)] + list(told_nets)
+
+
+def auto(budget):
+    return [11, budget]
+
+
+def improve(budget):
+    return [12, budget]
+
+
+def cell(layer, x, y):
+    return [13, layer, x, y]
+
+
+def way(net, k):
+    return [14, net, k]
+
+
+def tree(net):
+    return [15, net]
+
+
+def cost(net, start, goal):
+    """Both ends as layer, x and y."""
+    return [16, net] + list(start) + list(goal)
+
+
+def nets():
+    return [17]
+
+
+def unlaid():
+    return [18]
+
+
+def total():
+    return [19]
+
+
 def box(layer, x1, y1, x2, y2):
     """A box, of one cell where its second corner is left out."""
     return [layer, x1, y1, x1 if x2 is None else x2, y1 if y2 is None else y2]
@@ -104,6 +145,21 @@ def usable(calls, net, w, h, l):
     return found
 
 
+def seen(calls, w, h, l):
+    """All that the calls that only ask tell of the board behind the calls."""
+    asked = [nets(), unlaid(), total()]
+    asked += [cell(layer, x, y) for layer in range(1, l + 1) for y in range(h) for x in range(w)]
+    for net in range(1, 33):
+        asked += [tree(net)] + [way(net, k) for k in range(1, 17)]
+    return ask(calls + asked)[len(calls):]
+
+
+def rips(calls):
+    """The rips of the nets that have pins behind the calls, by net."""
+    said = last(calls + [nets()])
+    return {said[k]: said[k + 3] for k in range(1, len(said), 4)}
+
+
 def board_behind(calls):
     """The board itself behind the calls."""
     board = Board()
@@ -111,13 +167,13 @@ def board_behind(calls):
     return board
 
 
-def told(board, cell):
+def told(board, number):
     """A cell's number as layer, x and y."""
     grid = board.grid
-    return (cell // grid.area + 1, cell % grid.columns, cell // grid.columns % grid.rows)
+    return (number // grid.area + 1, number % grid.columns, number // grid.columns % grid.rows)
 
 
 def ways(calls, net):
     """The ways of a net that the calls have laid, in their order."""
     board = board_behind(calls)
-    return [[told(board, cell) for cell in way] for way in board.ways[net]]
+    return [[told(board, number) for number in cells] for cells in board.ways[net]]

@@ -1,5 +1,6 @@
 """The program beside a second one that follows the document's words as slowly as they are told."""
 
+import collections
 import random
 import unittest
 
@@ -108,8 +109,119 @@ class Words:
         others = [m for m in sorted(self.ways) if m != net and self.takes(self.ways[m]) & takes]
         return [tree[0], len(others)] + others
 
+    def order(self, *nets):
+        refusals = set().union(*[self.of_net(net) for net in nets])
+        if refusals:
+            return [max(refusals)]
+        for net in nets:
+            if self.pins[net] and net not in self.ways:
+                tree = self.tree(net, False)
+                if tree is not None:
+                    self.ways[net] = tree[1]
+        return self.unlaid()
+
+    def auto(self, budget):
+        if not 0 <= budget <= 1000:
+            return [-12]
+        return [self.tries(self.unlaid()[1:], budget)] + self.unlaid()
+
+    def improve(self, budget):
+        if not 0 <= budget <= 1000:
+            return [-12]
+        ways, rips, unlaid, before = dict(self.ways), dict(self.rips), self.unlaid()[1:], self.total()[1]
+        self.ways = {}
+        self.tries(unlaid + sorted(ways), budget)
+        now = self.unlaid()[0]
+        stays = now < len(unlaid) or now == len(unlaid) and not self.total()[1] > before
+        if not stays:
+            self.ways, self.rips = ways, rips
+        return [int(stays)] + self.unlaid()
+
+    def tries(self, row, budget):
+        made = 0
+        while row and budget > 0:
+            net = row.pop(0)
+            budget -= 1
+            made += 1
+            tree = self.tree(net, False)
+            if tree is not None:
+                self.ways[net] = tree[1]
+                continue
+            tree = self.tree(net, True)
+            if tree is not None:
+                takes = self.takes(tree[1])
+                others = [m for m in sorted(self.ways) if m != net and self.takes(self.ways[m]) & takes]
+                for other in others:
+                    del self.ways[other]
+                    self.rips[other] += 1
+                self.ways[net] = tree[1]
+                row.extend(others)
+        return made
+
+    def cell(self, layer, x, y):
+        refusals = self.of_cell(layer, x, y)
+        if refusals:
+            return [max(refusals)]
+        for net in self.pins:
+            if any((layer, x, y) in box for box in self.pins[net]):
+                return [2, net]
+        for net in self.ways:
+            if (layer, x, y) in self.takes(self.ways[net]):
+                return [3, net]
+        return [1, 0] if (layer, x, y) in self.blocked else [0, 0]
+
+    def way(self, net, k):
+        refusals = self.of_net(net)
+        if net not in self.ways:
+            refusals.add(-8)
+        if not 1 <= k <= len(self.ways.get(net, [])):
+            refusals.add(-13)
+        if refusals:
+            return [max(refusals)]
+        way = self.ways[net][k - 1]
+        return [len(way)] + [number for cell in way for number in cell]
+
+    def tree_of(self, net):
+        refusals = self.of_net(net)
+        if net not in self.ways:
+            refusals.add(-8)
+        if refusals:
+            return [max(refusals)]
+        ways = self.ways[net]
+        cost = sum(self.plain(v, u) for way in ways for v, u in zip(way, way[1:]))
+        return [cost, len(ways), len(self.takes(ways))]
+
+    def cost(self, net, *ends):
+        start, goal = ends[:3], ends[3:]
+        refusals = self.of_net(net) | self.of_cell(*start) | self.of_cell(*goal)
+        if refusals:
+            return [max(refusals)]
+        if not self.may_use(net, start) or not self.may_use(net, goal):
+            return [-14]
+        return [self.spread(self.steps(net, False), {start}).get(goal, -14)]
+
+    def nets(self):
+        row = [net for net in range(1, 33) if self.pins[net]]
+        told = [(net, len(self.pins[net]), int(net in self.ways), self.rips[net]) for net in row]
+        return [len(row)] + [number for four in told for number in four]
+
+    def unlaid(self):
+        row = [net for net in range(1, 33) if self.pins[net] and net not in self.ways]
+        return [len(row)] + row
+
+    def total(self):
+        return [len(self.ways), sum(self.tree_of(net)[0] for net in self.ways)]
+
     def of_net(self, net):
         return set() if 1 <= net <= 32 else {-5}
+
+    def of_cell(self, layer, x, y):
+        refusals = set()
+        if not 1 <= layer <= self.l:
+            refusals.add(-3)
+        if not (0 <= x <= self.w - 1 and 0 <= y <= self.h - 1):
+            refusals.add(-6)
+        return refusals
 
     def of_box(self, box):
         layer, x1, y1, x2, y2 = box
@@ -166,7 +278,15 @@ class Words:
     def extra(self, net, cell):
         if any(cell in box for box in self.pins[net]):
             return 0
-        return sum(self.penalty * (1 + self.rips[m]) for m in self.ways if m != net and cell in self.takes(self.ways[m]))
+        takers = [m for m in self.ways if m != net and cell in self.takes(self.ways[m])]
+        return sum(self.penalty * (1 + self.rips[m]) for m in takers)
+
+    def plain(self, v, u):
+        """What a step costs without anything extra."""
+        if v[0] != u[0]:
+            return self.via
+        bad = 1 if v[1] == u[1] else 2
+        return self.wrong if self.direction[u[0]] == bad else 1
 
     def steps(self, net, soft):
         """What each allowed step costs."""
@@ -177,11 +297,22 @@ class Words:
             for u in self.near(v):
                 if v[0] != u[0]:
                     if all(may[cell] for cell in self.place(u)):
-                        steps[v, u] = self.via + sum(extra[cell] for cell in self.place(u))
+                        steps[v, u] = self.plain(v, u) + sum(extra[cell] for cell in self.place(u))
                 elif may[v] and may[u]:
-                    bad = 1 if v[1] == u[1] else 2
-                    steps[v, u] = (self.wrong if self.direction[u[0]] == bad else 1) + extra[u]
+                    steps[v, u] = self.plain(v, u) + extra[u]
         return steps
+
+    def spread(self, steps, reached):
+        """The cost of each cell that has one."""
+        cost = {cell: 0 for cell in reached}
+        changed = True
+        while changed:
+            changed = False
+            for (v, u), step in steps.items():
+                if v in cost and cost[v] + step < cost.get(u, cost[v] + step + 1):
+                    cost[u] = cost[v] + step
+                    changed = True
+        return cost
 
     def tree(self, net, soft):
         steps = self.steps(net, soft)
@@ -189,14 +320,7 @@ class Words:
         waiting = self.pins[net][1:]
         ways, total = [], 0
         while waiting:
-            cost = {cell: 0 for cell in reached}
-            changed = True
-            while changed:
-                changed = False
-                for (v, u), step in steps.items():
-                    if v in cost and cost[v] + step < cost.get(u, cost[v] + step + 1):
-                        cost[u] = cost[v] + step
-                        changed = True
+            cost = self.spread(steps, reached)
             found = [(cost[c], c[0], c[2], c[1]) for box in waiting for c in box if c in cost]
             if not found:
                 return None
@@ -218,9 +342,10 @@ class Words:
         return total, ways
 
     def run(self, calls):
-        names = (self.begin, self.costs, self.prefer, self.block, self.free,
-                 self.pin, self.drop, self.route, self.rip, self.soft)
-        return [names[call[0]](*call[1:]) for call in calls]
+        names = (self.begin, self.costs, self.prefer, self.block, self.free, self.pin, self.drop, self.route, self.rip,
+                 self.soft, self.order, self.auto, self.improve, self.cell, self.way, self.tree_of, self.cost,
+                 self.nets, self.unlaid, self.total)
+        return [names[call[0]](*call[2 if call[0] == 10 else 1:]) for call in calls]
 
 
 def number_about(source, low, high):
@@ -238,9 +363,17 @@ def box_about(source, w, h, l, reach):
     return [number_about(source, 0, l) if source.random() < 0.4 else source.randint(1, l), x, y, x2, y2]
 
 
-def call_about(source, w, h, l):
-    net = number_about(source, 1, 4)
-    number = source.choices(range(1, 10), (2, 3, 1, 1, 2, 1, 9, 3, 9))[0]
+def cell_about(source, w, h, l):
+    return [number_about(source, 1, l), number_about(source, 0, w - 1), number_about(source, 0, h - 1)]
+
+
+# How often each of the calls 1 to 19 comes.
+OFTEN = (2, 3, 1, 1, 2, 1, 9, 4, 7, 3, 5, 4, 4, 6, 4, 4, 2, 2, 2)
+
+
+def call_about(source, w, h, l, nets):
+    net = number_about(source, 1, nets)
+    number = source.choices(range(1, 20), OFTEN)[0]
     if number == 1:
         return [1] + [number_about(source, 1, source.choice((3, 12, 1000))) for k in range(3)]
     if number == 2:
@@ -249,19 +382,37 @@ def call_about(source, w, h, l):
         return [number] + box_about(source, w, h, l, 1)
     if number == 5:
         return [5, net] + box_about(source, w, h, l, source.choice((0, 0, 1)))
+    if number == 10:
+        row = [number_about(source, 1, nets) for k in range(source.randint(0, 5))]
+        return [10, len(row)] + row
+    if number in (11, 12):
+        return [number, number_about(source, 0, source.choice((3, 6, 12)))]
+    if number == 13:
+        return [13] + cell_about(source, w, h, l)
+    if number == 14:
+        return [14, net, number_about(source, 1, 2)]
+    if number == 16:
+        return [16, net] + cell_about(source, w, h, l) + cell_about(source, w, h, l)
+    if number > 16:
+        return [number]
     return [number, net]
 
 
 def line_about(source):
+    """Small boards of any shape, or ones with room enough that nets cross one another."""
     w, h, l = source.randint(1, 7), source.randint(1, 6), source.choice((1, 1, 2, 3, 4))
+    nets, pins, reach = source.choice((4, 4, 8)), source.randint(6, 14), 1
+    if source.random() < 0.6:
+        w, h, l = source.randint(5, 8), source.randint(5, 8), source.choice((1, 1, 1, 2))
+        nets, pins, reach = 6, source.randint(10, 16), 0
     calls = [[0, w, h, l]]
-    for k in range(source.randint(6, 14)):
-        calls.append([5, 1 + k % 4] + box_about(source, w, h, l, source.choice((0, 0, 0, 0, 1))))
+    for k in range(pins):
+        calls.append([5, 1 + k % nets] + box_about(source, w, h, l, source.choice((0, 0, 0, 0, reach))))
     for k in range(source.randint(10, 50)):
         if source.random() < 0.005:
             calls.append([0] + [number_about(source, 1, 4) for size in range(3)])
         else:
-            calls.append(call_about(source, w, h, l))
+            calls.append(call_about(source, w, h, l, nets))
     return calls
 
 
@@ -277,20 +428,24 @@ class Beside(unittest.TestCase):
             if ways is not None:
                 ways = [[told(board, cell) for cell in way] for way in ways]
             self.assertEqual(ways, words.ways.get(net), calls)
+        self.assertEqual(board.rips[1:], [words.rips[net] for net in range(1, 33)], calls)
         return said
 
     def test_lines_of_calls_by_chance(self):
         source = random.Random(1)
-        laid = 0
-        through = 0
+        seen = collections.Counter()
         for k in range(800):
             calls = line_about(source)
             for call, said in zip(calls, self.check(calls)):
-                laid += call[0] == 7 and said[0] > 0
-                through += call[0] == 9 and len(said) > 2
-        # Lines that lay nothing would show nothing.
-        self.assertGreater(laid, 400)
-        self.assertGreater(through, 100)
+                seen["laid"] += call[0] == 7 and said[0] > 0
+                seen["through others"] += call[0] == 9 and len(said) > 2
+                seen["tried again"] += call[0] == 11 and said[0] > 3
+                seen["better"] += call[0] == 12 and said[0] == 1
+                seen["again as before"] += call[0] == 12 and said[0] == 0
+                seen["ripped by tries"] += call[0] == 17 and any(said[4::4])
+        # Lines that come to nothing would show nothing.
+        for what in ("laid", "through others", "tried again", "better", "again as before", "ripped by tries"):
+            self.assertGreater(seen[what], 100, seen)
 
 
 if __name__ == "__main__":

@@ -1,6 +1,6 @@
 import unittest
 
-from tests.helper import BIG, begin, block, costs, last, pin, prefer, rip, route, soft
+from tests.helper import BIG, begin, costs, last, pin, prefer, rip, route, soft
 
 # One layer with a net across, one step wide, so that a soft tree must go through it.
 CROSSED = [begin(3, 3, 1), pin(1, 1, 1, 0), pin(1, 1, 1, 2), route(1), pin(2, 1, 0, 1), pin(2, 1, 2, 1)]

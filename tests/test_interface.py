@@ -4,12 +4,45 @@ import sys
 import unittest
 
 from netways.board import UnknownCall, answers
-from tests.helper import begin, block, costs, drop, free, joined, pin, prefer, rip, route, soft
+from tests.helper import auto, begin, block, cell, cost, costs, drop, free, improve, joined, nets, order, pin, prefer
+from tests.helper import rip, route, soft, split, total, tree, unlaid, way
 
-EVERY_CALL = [
-    begin(4, 3, 2), costs(3, 2, 5), prefer(1, 2), block(1, 3, 0, 3, 2), free(1, 3, 1),
-    pin(1, 1, 0, 0), pin(1, 1, 0, 2), route(1), pin(2, 2, 0, 0), pin(2, 2, 1, 2), soft(2), rip(1), drop(1), drop(33),
-]
+CROSSED = [begin(3, 3, 1), pin(1, 1, 1, 0), pin(1, 1, 1, 2), route(1), pin(2, 1, 0, 1), pin(2, 1, 2, 1)]
+
+# Each call with what it answers: net 1 is laid down the middle column, net 2 can only go through it.
+TOLD = (
+    (begin(5, 3, 1), [0]),
+    (costs(3, 2, 5), [0]),
+    (prefer(1, 1), [0]),
+    (block(1, 3, 0, 4, 0), [0]),
+    (free(1, 4, 0), [0]),
+    (pin(1, 1, 2, 0), [1]),
+    (pin(1, 1, 2, 2), [2]),
+    (pin(2, 1, 0, 1), [1]),
+    (pin(2, 1, 4, 1), [2]),
+    (pin(3, 1, 0, 0), [1]),
+    (route(1), [4]),
+    (soft(2), [9, 1, 1]),
+    (cell(1, 3, 0), [1, 0]),
+    (cell(1, 2, 1), [3, 1]),
+    (way(1, 1), [3, 1, 2, 2, 1, 2, 1, 1, 2, 0]),
+    (tree(1), [4, 1, 3]),
+    (cost(2, (1, 0, 1), (1, 1, 2)), [3]),
+    (cost(2, (1, 0, 1), (1, 4, 1)), [-14]),
+    (nets(), [3, 1, 2, 1, 0, 2, 2, 0, 0, 3, 1, 0, 0]),
+    (unlaid(), [2, 2, 3]),
+    (total(), [1, 4]),
+    (order(3, 2), [1, 2]),
+    (auto(1), [1, 1, 1]),
+    (total(), [2, 4]),
+    (improve(1), [0, 1, 1]),
+    (improve(1000), [1, 1, 2]),
+    (rip(3), [0]),
+    (drop(3), [1]),
+    (drop(33), [-5]),
+    (nets(), [2, 1, 2, 1, 500, 2, 2, 0, 499]),
+)
+EVERY_CALL = [call for call, said in TOLD]
 
 
 class Watched(list):
@@ -28,12 +61,17 @@ class Answers(unittest.TestCase):
         self.assertEqual(answers(begin(3, 3, 1)), [1, 0])
         self.assertEqual(answers(begin(0, 3, 1)), [1, -1])
         self.assertEqual(answers(joined([pin(1, 1, 0, 0), soft(1)])), [1, 1, 2, 0, 0])
-        crossed = [begin(3, 3, 1), pin(1, 1, 1, 0), pin(1, 1, 1, 2), route(1), pin(2, 1, 0, 1), pin(2, 1, 2, 1), soft(2)]
+        self.assertEqual(answers(joined([unlaid(), order(), nets(), total(), auto(5)])),
+                         [1, 0, 1, 0, 1, 0, 2, 0, 0, 2, 0, 0])
+        self.assertEqual(answers(joined([order(0), auto(-1), improve(1001), cell(0, 0, 0), way(1, 1), tree(1)])),
+                         [1, -5, 1, -12, 1, -12, 1, -3, 1, -8, 1, -8])
+        crossed = CROSSED + [soft(2)]
         self.assertEqual(answers(joined(crossed)), [1, 0, 1, 1, 1, 2, 1, 2, 1, 1, 1, 2, 3, 10, 1, 1])
 
     def test_every_call_one_behind_another(self):
-        self.assertEqual(answers(joined(EVERY_CALL)), [
-            1, 0, 1, 0, 1, 0, 1, 0, 1, 0, 1, 1, 1, 2, 1, 2, 1, 1, 1, 2, 2, 3, 0, 1, 0, 1, 2, 1, -5])
+        self.assertEqual(sorted(set(call[0] for call in EVERY_CALL)), list(range(20)))
+        self.assertEqual(split(answers(joined(EVERY_CALL))), [said for call, said in TOLD])
+        self.assertEqual(answers(joined(EVERY_CALL)), joined([len(said)] + said for call, said in TOLD))
 
     def test_they_are_whole_numbers_in_a_list(self):
         said = answers(joined(EVERY_CALL))
@@ -46,6 +84,11 @@ class Answers(unittest.TestCase):
         said = answers(joined(calls))
         self.assertEqual(len(said), 2 * 140)
         self.assertEqual(said[0::2], [1] * 140)
+
+
+    def test_140_calls_of_the_longest_kind(self):
+        said = answers(joined([order(*range(1, 33), *[1] * 68)] * 140))
+        self.assertEqual(said, [1, 0] * 140)
 
 
 class WhatIsHandedIn(unittest.TestCase):
@@ -85,22 +128,31 @@ class OneTimeAndTheNext(unittest.TestCase):
 
 class Depth(unittest.TestCase):
 
-    def test_long_ways_are_gone_through_by_loops(self):
-        walls = [block(0, k // 2 % 2, k, 22 + k // 2 % 2, k) for k in range(1, 24, 2)]
-        calls = joined([begin(24, 24, 1)] + walls + [pin(1, 1, 0, 0), pin(1, 1, 23, 22), route(1), rip(1), soft(1)])
+    def answers_in_few_calls(self, calls):
+        """The answers, with far fewer calls within one another than Python allows."""
         limit = sys.getrecursionlimit()
         sys.setrecursionlimit(120)
         try:
-            said = answers(calls)
+            return answers(calls)
         finally:
             sys.setrecursionlimit(limit)
-        self.assertEqual(said[-7:], [1, 275, 1, 0, 2, 275, 0])
+
+    def test_long_ways_are_gone_through_by_loops(self):
+        walls = [block(0, k // 2 % 2, k, 22 + k // 2 % 2, k) for k in range(1, 24, 2)]
+        asked = [tree(1), improve(1), rip(1), soft(1), auto(1), cost(1, (1, 0, 0), (1, 23, 22)), total()]
+        calls = joined([begin(24, 24, 1)] + walls + [pin(1, 1, 0, 0), pin(1, 1, 23, 22), route(1)] + asked)
+        said = split(self.answers_in_few_calls(calls))
+        self.assertEqual(said[-8:], [[275], [275, 1, 276], [1, 0], [0], [275, 0], [1, 0], [275], [1, 275]])
+
+    def test_a_long_row_is_gone_through_by_loops(self):
+        calls = joined(CROSSED + [auto(1000), improve(1000), order(*[1, 2] * 50)])
+        self.assertEqual(split(self.answers_in_few_calls(calls))[-3:], [[1000, 1, 2], [1, 1, 2], [1, 2]])
 
 
 class NoSuchCall(unittest.TestCase):
 
     def test_a_number_that_is_no_calls_is_an_error(self):
-        for number in (-1, 20, 1000000000):
+        for number in (-1000000000, -1, 20, 1000000000):
             with self.assertRaises(UnknownCall):
                 answers([number])
 

@@ -34,6 +34,12 @@ NO_WORDS = re.compile(
 )
 
 
+WALKED = ("zip", "enumerate", "reversed", "range", "items", "keys", "values")
+WALKERS = ("list", "tuple", "dict", "sorted", "sum", "any", "all", "enumerate", "zip", "min", "max")
+KEYWORDS = {"sorted": ("key", "reverse"), "min": ("key", "default"), "max": ("key", "default"), "sum": ("start",),
+            "enumerate": ("start",), "zip": ("strict",)}
+
+
 def files():
     return sorted(FOLDER.glob("*.py"))
 
@@ -49,6 +55,20 @@ def assigned(node):
     if isinstance(node, ast.Name) and isinstance(node.ctx, ast.Store):
         return [node.id]
     return []
+
+
+def name_of(call):
+    """What is called, by its last name."""
+    return call.func.attr if isinstance(call.func, ast.Attribute) else getattr(call.func, "id", None)
+
+
+def is_plain(node):
+    """A value that may stand at a file's top: no list or dict within another."""
+    if isinstance(node, ast.Tuple):
+        return all(is_plain(part) for part in node.elts)
+    if isinstance(node, ast.UnaryOp):
+        return isinstance(node.operand, ast.Constant)
+    return isinstance(node, (ast.Constant, ast.Name))
 
 
 class Language(unittest.TestCase):
@@ -108,6 +128,65 @@ class Language(unittest.TestCase):
             for name in node.names:
                 self.assertIn(name.name, defined, path)
                 self.assertIsNone(name.asname, path)
+
+    def test_no_two_files_draw_from_one_another(self):
+        drawn = {path.stem: set() for path in files()}
+        for path, node in self.each(ast.ImportFrom):
+            drawn[path.stem].add(node.module.split(".")[1])
+        while drawn:
+            ends = [stem for stem in drawn if not drawn[stem]]
+            self.assertTrue(ends, drawn)
+            drawn = {stem: drawn[stem] - set(ends) for stem in drawn if stem not in ends}
+
+    def test_the_top_of_a_file(self):
+        for path in files():
+            top = ast.parse(path.read_text()).body
+            bound = []
+            for place, node in enumerate(top):
+                if isinstance(node, ast.Expr):
+                    self.assertTrue(place == 0 and isinstance(node.value, ast.Constant), (path, node.lineno))
+                elif isinstance(node, ast.Assign):
+                    self.assertTrue(is_plain(node.value), (path, node.lineno))
+                    bound.append(node.targets[0].id)
+                elif isinstance(node, ast.ImportFrom):
+                    bound += [name.name for name in node.names]
+                else:
+                    self.assertIsInstance(node, (ast.FunctionDef, ast.ClassDef), (path, node.lineno))
+                    bound.append(node.name)
+            self.assertEqual(sorted(bound), sorted(set(bound)), path)
+
+    def test_is_stands_beside_none_true_and_false_alone(self):
+        for path, node in self.each(ast.Compare):
+            if any(isinstance(sign, (ast.Is, ast.IsNot)) for sign in node.ops):
+                self.assertIsInstance(node.comparators[0], ast.Constant, (path, node.lineno))
+                self.assertIn(node.comparators[0].value, (None, True, False), (path, node.lineno))
+
+    def test_no_annotations(self):
+        for path, node in self.each(ast.FunctionDef):
+            self.assertIsNone(node.returns, (path, node.name))
+        for path, node in self.each(ast.arg):
+            self.assertIsNone(node.annotation, (path, node.arg))
+
+    def test_keywords_of_pythons_own(self):
+        for path, node in self.each(ast.Call):
+            for keyword in node.keywords:
+                self.assertIn(keyword.arg, KEYWORDS.get(name_of(node), ()), (path, node.lineno))
+
+    def test_what_is_walked_is_walked_at_once_and_sets_are_not_kept(self):
+        for path in files():
+            found, walked, in_sorted = nodes(path), [], []
+            for node in found:
+                if isinstance(node, (ast.For, ast.comprehension)):
+                    walked.append(node.iter)
+                elif isinstance(node, ast.Call) and name_of(node) in WALKERS:
+                    walked += node.args[:1]
+                if isinstance(node, ast.Call) and name_of(node) in ("sorted", "len"):
+                    in_sorted += node.args[:1]
+            for node in found:
+                if isinstance(node, ast.Call) and name_of(node) in WALKED:
+                    self.assertIn(node, walked, (path, node.lineno))
+                if isinstance(node, ast.Call) and name_of(node) in ("set", "frozenset"):
+                    self.assertIn(node, in_sorted, (path, node.lineno))
 
     def test_names(self):
         imported = {path: [] for path in files()}

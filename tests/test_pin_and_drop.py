@@ -1,6 +1,7 @@
 import unittest
 
-from tests.helper import BIG, WRONG_CORNERS, ask, begin, block, board_behind, drop, free, held, last, pin, rip, route, told
+from tests.helper import BIG, WRONG_CORNERS, ask, begin, block, board_behind, drop, free, held, last, pin, rip, route
+from tests.helper import told
 
 SMALL = [begin(4, 3, 2)]
 FULL = SMALL + [pin(1, 1, 0, 0)] * 16

@@ -118,6 +118,10 @@ class TreesOfPins(unittest.TestCase):
         calls = [begin(5, 3, 1), pin(1, 1, 0, 0), pin(1, 1, 4, 0), pin(1, 1, 2, 2), route(1)]
         self.assertEqual(last(calls), [6])
         self.assertEqual(ways(calls, 1)[1], [(1, 2, 2), (1, 2, 1), (1, 2, 0)])
+        for x in range(5):
+            calls = [begin(5, 9, 1), pin(1, 1, 0, 0), pin(1, 1, 4, 0), pin(1, 1, x, 8), route(1)]
+            self.assertEqual(last(calls), [12])
+            self.assertEqual(ways(calls, 1)[1], [(1, x, y) for y in range(8, -1, -1)])
 
     def test_a_pin_told_on_all_layers_is_on_each(self):
         for layer in (1, 2, 3, 4):

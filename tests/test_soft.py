@@ -1,6 +1,6 @@
 import unittest
 
-from netways.calls import soft as soft_on
+from netways.asks import ask_soft as soft_on
 from tests.helper import BIG, ask, begin, block, board_behind, costs, held, last, pin, prefer, rip, route, soft
 
 # Net 1 down the middle column, net 2 with a pin on either side.
